@@ -32,6 +32,7 @@ KEYWORDS = {
     "sorted": ("key", "reverse"), "min": ("key", "default"), "max": ("key", "default"),
     "sum": ("start",), "enumerate": ("start",), "zip": ("strict",),
 }
+KINDS = "int str bool list tuple dict".split()
 WALKED = "zip enumerate reversed range items keys values".split()
 WALKERS = "list tuple dict sorted sum any all enumerate zip".split()
 BARRED_NAMES = (
@@ -272,9 +273,17 @@ def statement_faults(tree, trees):
         if isinstance(node, ast.Assign):
             if len(node.targets) != 1 or not isinstance(node.targets[0], (ast.Name, ast.Subscript)):
                 found.append(told("L6", node, "more than one target"))
+        if isinstance(node, (ast.For, ast.comprehension)) and not is_loop_target(node.target):
+            found.append(told("L6", node.target, "a loop binds something else than names"))
         if isinstance(node, ast.AugAssign) and not isinstance(node.target, (ast.Name, ast.Subscript)):
             found.append(told("L6", node, "no such target"))
     return found
+
+
+def is_loop_target(target):
+    if isinstance(target, ast.Tuple):
+        return all(is_loop_target(part) for part in target.elts)
+    return isinstance(target, ast.Name)
 
 
 def expression_faults(tree, trees):
@@ -356,8 +365,8 @@ def call_faults(tree, trees):
         if isinstance(node, ast.Attribute) and (node.attr not in METHODS or not called):
             found.append(told("L25", node, f"{node.attr} is no method that is called there"))
         if isinstance(node, ast.Name) and node.id in OWN_NAMES and not called:
-            by_isinstance = isinstance(node.parent, ast.Call) and getattr(node.parent.func, "id", "") == "isinstance"
-            if not by_isinstance:
+            asked = isinstance(node.parent, ast.Call) and getattr(node.parent.func, "id", "") == "isinstance"
+            if not asked or node.id not in KINDS or node.parent.args[1:] != [node]:
                 found.append(told("L22", node, f"{node.id} is not called there"))
         if isinstance(node, ast.Call):
             found += keyword_faults(node, top_names(tree))
@@ -374,7 +383,12 @@ def keyword_faults(call, top):
     given = [keyword.arg for keyword in call.keywords]
     if name in top:
         return [told("L7", call, "a star") for word in given if word is None]
-    return [told("L22", call, f"the keyword {word}") for word in given if word not in KEYWORDS.get(name, ())]
+    found = [told("L22", call, f"the keyword {word}") for word in given if word not in KEYWORDS.get(name, ())]
+    for keyword in call.keywords:
+        written = isinstance(keyword.value, ast.Constant) and isinstance(keyword.value.value, bool)
+        if keyword.arg in ("reverse", "strict") and not written:
+            found.append(told("L22", call, f"{keyword.arg} without a written True or False"))
+    return found
 
 
 def set_is_in_place(call):
@@ -396,8 +410,6 @@ def is_walked_at_once(call):
     name = getattr(parent.func, "id", "")
     if name in ("min", "max"):
         return len(parent.args) == 1
-    if name == "zip":
-        return True
     return name in WALKERS and parent.args[0] is call
 
 

@@ -22,6 +22,8 @@ def told(points, ties, many=3):
         if tie not in found and tie[0] is not None:
             found[tie] = place
         total += place * 2 ** 3 // MOST
+    for name, number in zip(reversed(ties), list(range(3)), strict=False):
+        total += 1 if isinstance(name, tuple) else number
     while total > many:
         total = total - 1
     if points < 0 or not ties:
@@ -44,6 +46,7 @@ BAD_BODIES = [
     ("L6", "a, b = xs"),
     ("L6", "for x in xs:\n        pass\n    else:\n        pass"),
     ("L6", "try:\n        pass\n    except KeyError:\n        pass"),
+    ("L6", "for xs[0] in (1, 2):\n        pass"),
     ("L6", "xs == 1"),
     ("L6", '"a text by itself"'),
     ("L7", "a = 1.5"),
@@ -90,9 +93,13 @@ BAD_BODIES = [
     ("L22", "a = len"),
     ("L22", "a = sorted(xs, cmp=1)"),
     ("L22", "a = xs.split(sep=1)"),
+    ("L22", "a = sorted(xs, reverse=xs)"),
+    ("L22", "a = isinstance(xs, set)"),
+    ("L22", "a = isinstance(int, xs)"),
     ("L23", "a = range(3)"),
     ("L23", "a = zip(xs, xs)"),
     ("L23", "a = xs.items()"),
+    ("L23", "for x, y in zip(xs, range(3)):\n        pass"),
     ("L23", "a = len(range(3))"),
     ("L23", "for x in xs:\n        xs.append(x)"),
     ("L23", "for k, x in enumerate(xs):\n        xs[k] = 1"),
