@@ -1,6 +1,6 @@
-"""Webs, and lists that are no web's, for the tests."""
+"""Webs, lists that are no web's, and dyes and arrows gone through by hand, for the tests."""
 
-from itertools import combinations
+from itertools import combinations, product
 
 
 def all_webs(points):
@@ -62,3 +62,50 @@ NO_WEBS = [
     (6, list(combinations(range(6), 2))),
     (6, list(combinations(range(6), 2))[:13]),
 ]
+
+
+def dyeings_by_hand(points, ties, many):
+    """The dyeings, the least one first: lists are gone through in the order of their first unlike dyes."""
+    for dyes in product(range(many), repeat=points):
+        for a, b in ties:
+            if dyes[a] == dyes[b]:
+                break
+        else:
+            yield list(dyes)
+
+
+def least_by_hand(points, ties, many):
+    return next(dyeings_by_hand(points, ties, many), None)
+
+
+def fewest_by_hand(points, ties):
+    return min(many for many in range(8) if least_by_hand(points, ties, many) is not None)
+
+
+def all_settings(ties):
+    return [list(arrows) for arrows in product((True, False), repeat=len(ties))]
+
+
+def steps_by_hand(ties, arrows):
+    """The arrows as tuples: where each begins and where it leads."""
+    return [(a, b) if arrows[place] else (b, a) for place, (a, b) in enumerate(ties)]
+
+
+def ranks_by_hand(points, ties, arrows):
+    """The ranks, each way followed arrow by arrow; None where one comes to a point again."""
+    steps = steps_by_hand(ties, arrows)
+    longest = [0] * points
+    ways = [[point] for point in range(points)]
+    while ways:
+        way = ways.pop()
+        longest[way[-1]] = max(longest[way[-1]], len(way) - 1)
+        for start, end in steps:
+            if start == way[-1]:
+                if end in way:
+                    return None
+                ways.append(way + [end])
+    return longest
+
+
+def settings_that_do_not_go_round(points, ties):
+    return [arrows for arrows in all_settings(ties) if ranks_by_hand(points, ties, arrows) is not None]
